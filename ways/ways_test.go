@@ -186,7 +186,9 @@ func (l *loader) note(f facts, n ast.Node, called map[ast.Expr]bool) {
 }
 
 // ways is what the section says, by the layers that are built.
-var ways = map[string][]string{}
+var ways = map[string][]string{
+	"pm": {"map", "range-map", "closure"},
+}
 
 func TestWays(t *testing.T) {
 	l := newLoader()
