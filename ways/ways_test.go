@@ -189,6 +189,7 @@ func (l *loader) note(f facts, n ast.Node, called map[ast.Expr]bool) {
 var ways = map[string][]string{
 	"pm":    {"map", "range-map", "closure"},
 	"spare": {"map", "range-int"},
+	"ring":  {"closure"},
 }
 
 func TestWays(t *testing.T) {
