@@ -187,9 +187,10 @@ func (l *loader) note(f facts, n ast.Node, called map[ast.Expr]bool) {
 
 // ways is what the section says, by the layers that are built.
 var ways = map[string][]string{
-	"pm":    {"map", "range-map", "closure"},
-	"spare": {"map", "range-int"},
-	"ring":  {"closure"},
+	"pm":      {"map", "range-map", "closure"},
+	"spare":   {"map", "range-int"},
+	"ring":    {"closure"},
+	"feistel": {"array", "method-value"},
 }
 
 func TestWays(t *testing.T) {
