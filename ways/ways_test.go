@@ -191,6 +191,7 @@ var ways = map[string][]string{
 	"spare":   {"map", "range-int"},
 	"ring":    {"closure"},
 	"feistel": {"array", "method-value"},
+	"hot":     {"heap.Init", "heap.Pop", "assertion", "closure"},
 }
 
 func TestWays(t *testing.T) {
