@@ -192,6 +192,7 @@ var ways = map[string][]string{
 	"ring":    {"closure"},
 	"feistel": {"array", "method-value"},
 	"hot":     {"heap.Init", "heap.Pop", "assertion", "closure"},
+	"log":     {"variadic", "struct-compare"},
 }
 
 func TestWays(t *testing.T) {
