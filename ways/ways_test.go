@@ -193,6 +193,7 @@ var ways = map[string][]string{
 	"feistel": {"array", "method-value"},
 	"hot":     {"heap.Init", "heap.Pop", "assertion", "closure"},
 	"log":     {"variadic", "struct-compare"},
+	"alloc":   {"slices.IndexFunc closure"},
 }
 
 func TestWays(t *testing.T) {
