@@ -194,6 +194,7 @@ var ways = map[string][]string{
 	"hot":     {"heap.Init", "heap.Pop", "assertion", "closure"},
 	"log":     {"variadic", "struct-compare"},
 	"alloc":   {"slices.IndexFunc closure"},
+	"ext":     {"variadic", "closure"},
 }
 
 func TestWays(t *testing.T) {
