@@ -195,6 +195,7 @@ var ways = map[string][]string{
 	"log":     {"variadic", "struct-compare"},
 	"alloc":   {"slices.IndexFunc closure"},
 	"ext":     {"variadic", "closure"},
+	"inode":   {"iota"},
 }
 
 func TestWays(t *testing.T) {
