@@ -196,6 +196,7 @@ var ways = map[string][]string{
 	"alloc":   {"slices.IndexFunc closure"},
 	"ext":     {"variadic", "closure"},
 	"inode":   {"iota"},
+	"dir":     {"map", "delete"},
 }
 
 func TestWays(t *testing.T) {
