@@ -197,6 +197,7 @@ var ways = map[string][]string{
 	"ext":     {"variadic", "closure"},
 	"inode":   {"iota"},
 	"dir":     {"map", "delete"},
+	"path":    {"range-func"},
 }
 
 func TestWays(t *testing.T) {
