@@ -198,6 +198,7 @@ var ways = map[string][]string{
 	"inode":   {"iota"},
 	"dir":     {"map", "delete"},
 	"path":    {"range-func"},
+	"tree":    {"embedding", "promoted", "map", "range-map", "iota", "clear", "delete"},
 }
 
 func TestWays(t *testing.T) {
