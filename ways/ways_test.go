@@ -199,6 +199,7 @@ var ways = map[string][]string{
 	"dir":     {"map", "delete"},
 	"path":    {"range-func"},
 	"tree":    {"embedding", "promoted", "map", "range-map", "iota", "clear", "delete"},
+	"apply":   {"map", "iota"},
 }
 
 func TestWays(t *testing.T) {
