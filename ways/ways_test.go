@@ -200,6 +200,7 @@ var ways = map[string][]string{
 	"path":    {"range-func"},
 	"tree":    {"embedding", "promoted", "map", "range-map", "iota", "clear", "delete"},
 	"apply":   {"map", "iota"},
+	"store":   {"closure"},
 }
 
 func TestWays(t *testing.T) {
