@@ -201,6 +201,7 @@ var ways = map[string][]string{
 	"tree":    {"embedding", "promoted", "map", "range-map", "iota", "clear", "delete"},
 	"apply":   {"map", "iota"},
 	"store":   {"closure"},
+	"file":    {"method-value", "closure"},
 }
 
 func TestWays(t *testing.T) {
