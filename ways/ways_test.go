@@ -202,6 +202,7 @@ var ways = map[string][]string{
 	"apply":   {"map", "iota"},
 	"store":   {"closure"},
 	"file":    {"method-value", "closure"},
+	"desc":    {"iota", "array"},
 }
 
 func TestWays(t *testing.T) {
