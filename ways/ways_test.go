@@ -203,6 +203,7 @@ var ways = map[string][]string{
 	"store":   {"closure"},
 	"file":    {"method-value", "closure"},
 	"desc":    {"iota", "array"},
+	"lock":    {"variadic", "map", "maps.DeleteFunc closure"},
 }
 
 func TestWays(t *testing.T) {
