@@ -204,6 +204,7 @@ var ways = map[string][]string{
 	"file":    {"method-value", "closure"},
 	"desc":    {"iota", "array"},
 	"lock":    {"variadic", "map", "maps.DeleteFunc closure"},
+	"call":    {"embedding", "promoted", "iota", "method-value", "closure"},
 }
 
 func TestWays(t *testing.T) {
