@@ -205,6 +205,7 @@ var ways = map[string][]string{
 	"desc":    {"iota", "array"},
 	"lock":    {"variadic", "map", "maps.DeleteFunc closure"},
 	"call":    {"embedding", "promoted", "iota", "method-value", "closure"},
+	"sched":   {"slices.Clone"},
 }
 
 func TestWays(t *testing.T) {
