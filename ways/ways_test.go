@@ -206,6 +206,7 @@ var ways = map[string][]string{
 	"lock":    {"variadic", "map", "maps.DeleteFunc closure"},
 	"call":    {"embedding", "promoted", "iota", "method-value", "closure"},
 	"sched":   {"slices.Clone"},
+	"model":   {"embedding", "promoted", "map"},
 }
 
 func TestWays(t *testing.T) {
