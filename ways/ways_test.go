@@ -207,6 +207,7 @@ var ways = map[string][]string{
 	"call":    {"embedding", "promoted", "iota", "method-value", "closure"},
 	"sched":   {"slices.Clone"},
 	"model":   {"embedding", "promoted", "map"},
+	"script":  {"map", "method-expression", "function-field", "table", "range-string", "clear"},
 }
 
 func TestWays(t *testing.T) {
