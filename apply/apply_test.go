@@ -208,3 +208,15 @@ func TestWholeP20_3(t *testing.T) {
 		}
 	}
 }
+
+func TestZeroStateP20_2(t *testing.T) {
+	var s apply.State
+	for _, x := range []rec.Record{r(4, "\x01\x00d"), r(2, "\x01\x00"), r(1, rootBody)} {
+		if e := s.Apply(x); e != api.OK {
+			t.Error(e)
+		}
+	}
+	if tr, e := s.Tree(); e != api.OK || !same(tr, tree.New()) {
+		t.Error(e)
+	}
+}

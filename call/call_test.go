@@ -399,6 +399,10 @@ func TestLinksP25_3(t *testing.T) {
 	stat(t, y, "/e", 2, inode.Dir, 2, 0)
 	does(t, y, on(call.Stat, "/odd"), api.ErrName)
 	is(t, y, on(call.Readdir, "/"), call.Result{Names: []string{"e", "f", "g", "l", "l2", "ln", "odd"}})
+	does(t, y, two(call.Link, "/ln", "/"), api.ErrThere)
+	does(t, y, two(call.Link, "/ln", "/x/"), api.ErrNotDir)
+	is(t, y, trunc("/l", 70), call.Result{})
+	stat(t, y, "/g", 3, inode.File, 2, 70)
 	ok(t, y, on(call.Mkdir, "/a"), on(call.Mkdir, "/a/b"), on(call.Mkdir, "/c"), two(call.Rename, "a/b", "c"))
 	stat(t, y, "/c", 8, inode.Dir, 2, 0)
 }

@@ -214,3 +214,13 @@ func TestAgainstMap(t *testing.T) {
 		t.Error(d.List())
 	}
 }
+
+func TestZeroDirP17_2(t *testing.T) {
+	var d dir.Dir
+	if d.Len() != 0 || len(d.List()) != 0 || d.Drop("a") != api.ErrNone || d.Put("a", 1) != api.OK || d.Len() != 1 {
+		t.Error("a zero Dir")
+	}
+	if n, ok := d.Get("a"); n != 1 || !ok || len(d.Buckets()) != 4 {
+		t.Error(n, d.Buckets())
+	}
+}

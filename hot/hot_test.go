@@ -377,3 +377,65 @@ func TestPowerP10_4(t *testing.T) {
 		t.Errorf("only %d moves", moved)
 	}
 }
+
+// TestMoveFailsP10_3: the page could be written where it is, but not moved, since a line of another frame, or of the table, is bad.
+func TestMoveFailsP10_3(t *testing.T) {
+	c := config(2, 16, 0, 12, 3)
+	for _, bad := range []int{16, 19, 23, 0} { // lines of the list: those of the frame 2, and the table's
+		d, p := made(t, c, 13)
+		for i := range 13 {
+			if e := p.Write(0, i%8, text(uint64(1+i%8))); e != api.OK {
+				t.Fatal(e)
+			}
+		}
+		if p.Flat().Moves(0) <= p.Flat().Moves(1) {
+			t.Fatal("the page would stay")
+		}
+		at, _ := p.Flat().Where(bad)
+		d.Break(at)
+		for range 2 {
+			if e := p.Write(0, 0, text(9)); e != api.ErrSpares || p.Heat(0) != 13 || p.Moved(0) != 0 {
+				t.Errorf("line %d is bad: %v, heat %d", bad, e, p.Heat(0))
+			}
+		}
+		if at, _ := p.Frame(0); at != 1 {
+			t.Errorf("the page is at %d", at)
+		}
+		for i := range 8 {
+			if s, _ := p.Read(0, i); s != text(uint64(1+i)) {
+				t.Errorf("line %d reads %x", i, s)
+			}
+		}
+	}
+}
+
+func TestMakeFailsP10_1(t *testing.T) {
+	c := config(2, 16, 0, 100, 3)
+	_, p := made(t, c, 1)
+	table, _ := p.Flat().Where(0)
+	d := device(t, c.Size())
+	d.Break(table)
+	if e := hot.Make(d, c); e != api.ErrSpares {
+		t.Errorf("the table is bad: %v", e)
+	}
+	d = device(t, c.Size())
+	d.Break(0)
+	if e := hot.Make(d, c); e != api.ErrSpares {
+		t.Errorf("the head is bad: %v", e)
+	}
+	for n := 1; ; n++ {
+		d := device(t, c.Size())
+		d.Fuse(n)
+		e := hot.Make(d, c)
+		if !d.Off() {
+			if e != api.OK || n < 100 {
+				t.Error(n, e)
+			}
+			break
+		}
+		d.Boot(nil)
+		if p, o := hot.Open(d, 1); e != api.ErrPower || o != api.ErrForm || p != nil {
+			t.Fatalf("fuse %d: %v, %v", n, e, o)
+		}
+	}
+}

@@ -414,3 +414,21 @@ func TestPowerP13_5(t *testing.T) {
 		}
 	}
 }
+
+func TestFormatFailsP13_2(t *testing.T) {
+	p := log.Plan{At: 0, Half: 64}
+	for n := 1; ; n++ {
+		d, s := made(t, config())
+		d.Fuse(n)
+		e := log.Format(s, p)
+		if !d.Off() {
+			if e != api.OK || n != 27 {
+				t.Errorf("two lines and two words: %v, %d operations", e, n-1)
+			}
+			break
+		}
+		if e != api.ErrPower {
+			t.Fatalf("fuse %d: %v", n, e)
+		}
+	}
+}

@@ -392,3 +392,55 @@ func TestPower(t *testing.T) {
 		t.Error("the power failed only", fails, "times")
 	}
 }
+
+// TestCornersP29_4 makes the calls that the document's edges name in both, with numbers at the limits.
+func TestCornersP29_4(t *testing.T) {
+	x := rand.New(rand.NewPCG(35, 1))
+	names := []string{"/a", "/d", "/new", "/new/", "/a/", "/d/", "/l", "/l/", "/ld", "/ld/", "/ln", "/loop", "/loop/x", "/d/e", "/ld/e", "/ld/f", "/none/x", "/a/x", "/none/..", "/", ".", "..", "d/..", "", strings.Repeat("x", 33), strings.Repeat("/", 257), "a\x00"}
+	numbers := []int{0, 1, 2, 3, 4, 5, 7, 9, 10, 11, 19, 25, 26, 27, 34, 41, 42, 43, 63, 64, 100, most - 1, most, most + 1, 1 << 62, 1<<62 - 100, 1<<62 + 1, -1, -(1 << 62), math.MaxInt, math.MinInt}
+	for range 25 {
+		_, y := made(t)
+		w := world(t, 3)
+		both := func(c call.Call) {
+			t.Helper()
+			client := x.IntN(2)
+			r, e := y.Do(client, c)
+			want, e2 := w.Do(client, c)
+			if e != e2 || !same(r, want) {
+				t.Fatalf("%v: %v, not %v", c, r, want)
+			}
+		}
+		for _, c := range []call.Call{
+			on(call.Mkdir, "/d"), on(call.Mkdir, "/d/e"), opn("/a", call.Create|3), opn("/a", call.Create|7), opn("/a", 1), opn("/d", 1), {Kind: call.Symlink, Path: "/l", To: "a"}, {Kind: call.Symlink, Path: "/ld", To: "d/"},
+			{Kind: call.Symlink, Path: "/ln", To: "none"}, {Kind: call.Symlink, Path: "/loop", To: "loop"},
+		} {
+			both(c)
+		}
+		for range 400 {
+			both(call.Call{
+				Kind: call.Kind(1 + x.IntN(int(call.Kinds)-1)), Path: names[x.IntN(len(names))], To: names[x.IntN(len(names))], Fd: x.IntN(4),
+				N: numbers[x.IntN(len(numbers))], At: numbers[x.IntN(len(numbers))], Data: strings.Repeat("x", x.IntN(3)*x.IntN(40)),
+			})
+		}
+		if !w.Same(y) {
+			t.Fatal("not the same")
+		}
+	}
+}
+
+// TestStaleP29_1: the bytes of a file that is gone are not those of the next one with its number.
+func TestStaleP29_1(t *testing.T) {
+	w := world(t, 1)
+	for i := range 4 {
+		do(t, w, opn("/a", call.Create|3), call.Result{})
+		do(t, w, call.Call{Kind: call.Ftruncate, N: 3}, call.Result{})
+		do(t, w, call.Call{Kind: call.Read, N: 9}, call.Result{Data: "\x00\x00\x00"})
+		do(t, w, call.Call{Kind: call.Pwrite, Data: "abc"}, call.Result{N: 3})
+		do(t, w, on(call.Unlink, "/a"), call.Result{})
+		if i%2 == 0 {
+			w.Lost()
+		} else {
+			do(t, w, call.Call{Kind: call.Close}, call.Result{})
+		}
+	}
+}

@@ -96,6 +96,9 @@ func TestDecodeP12_2(t *testing.T) {
 		t.Errorf("kind 0: %v", e)
 	}
 	long, _ := rec.Encode(stamp, rec.Record{Kind: 9, Body: strings.Repeat("x", 1024)})
+	if e := decodes(long); e != api.OK {
+		t.Errorf("1024 bytes: %v", e)
+	}
 	b = []byte(long)
 	b[0] = 1 // 1025 bytes, which need as many words
 	if e := decodes(sealed(string(b))); e != api.ErrForm {

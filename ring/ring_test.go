@@ -349,3 +349,34 @@ func TestWearP7_5(t *testing.T) {
 		}
 	}
 }
+
+// TestMoveFailsP7_3: the lines could be written, but the region can't move.
+func TestMoveFailsP7_3(t *testing.T) {
+	p := ring.Plan{At: 0, Lines: 3, Spares: 0, Psi: 1}
+	for _, bad := range []int{3, 4} { // the slot to which a line is moved, and the register
+		d, r := made(t, p)
+		r.Write(0, text(1))
+		r.Write(1, text(2))
+		d.Break(2)
+		state := r.State()
+		if state.Moves != 1 {
+			t.Fatal(state)
+		}
+		if bad == 4 {
+			d, r = made(t, p)
+			r.Write(0, text(1))
+			state = r.State()
+			d.Break(4)
+		}
+		count := d.Count()
+		for range 2 {
+			if r.Write(0, text(7)) != api.ErrSpares || r.WriteWord(0, 0, 7) != api.ErrSpares || r.State() != state || r.Since() != 1 {
+				t.Errorf("line %d is bad: %v, %d", bad, r.State(), r.Since())
+			}
+		}
+		reads(t, r, 0, text(1))
+		if d.Count() == count {
+			t.Error("no move was tried")
+		}
+	}
+}

@@ -13,6 +13,8 @@ import (
 	"gabion/boot"
 	"gabion/call"
 	"gabion/flat"
+	"gabion/hot"
+	"gabion/pm"
 	"gabion/script"
 )
 
@@ -246,5 +248,60 @@ func TestRunP30_3(t *testing.T) {
 	}
 	if got, e := script.Run(exact + "list\n"); got != "" || e != api.ErrFull {
 		t.Error(len(got), e)
+	}
+}
+
+// TestKeyP30_3: the key decides which line of the device a page's line is; the log's first one is looked for by breaking each.
+func TestKeyP30_3(t *testing.T) {
+	first := func(key int) string {
+		hits := ""
+		for i := range 133 {
+			k := script.New()
+			talk(t, k, fmt.Sprintf("make 2 64 0 65535 %d 9 512 1", key), "ok 87", fmt.Sprint("break ", i), "ok")
+			if k.Do("boot .") != "ok" {
+				hits += fmt.Sprint(i, " ")
+			}
+		}
+		return hits
+	}
+	seen := map[string]int{}
+	for _, key := range []int{0, 1, 12345, math.MaxInt} {
+		c := flat.Config{Regions: 2, Lines: 64, Spares: 0, Psi: 65535, Key: uint64(key)}
+		d, _ := pm.New(c.Size())
+		hot.Make(d, c)
+		p, _ := hot.Open(d, 9)
+		at, _ := p.Frame(0)
+		l, _ := p.Flat().Where(8 * at)
+		if got := first(key); got != fmt.Sprint(l, " ") {
+			t.Errorf("key %d: %s, not %d", key, got, l)
+		}
+		seen[first(key)]++
+	}
+	if len(seen) < 2 {
+		t.Error("the key has no effect")
+	}
+}
+
+// TestKeepP30_3: what is kept at a boot lasts.
+func TestKeepP30_3(t *testing.T) {
+	differ := 0
+	for n := 1; n < 200; n++ {
+		var got [2]string
+		for i, keep := range []string{"1111111111", "."} {
+			k := script.New()
+			talk(t, k, small, "ok 87", fmt.Sprint("fuse ", n), "ok")
+			k.Do("call 0 mkdir /a")
+			talk(t, k, "boot "+keep, "ok")
+			got[i] = k.Do("list")
+		}
+		if got[0] != got[1] {
+			differ++
+			if got[0] != "ok|/ d 1 3 0|/a d 2 2 0" || got[1] != "ok|/ d 1 2 0" {
+				t.Fatal(n, got)
+			}
+		}
+	}
+	if differ == 0 {
+		t.Error("what is kept has no effect")
 	}
 }

@@ -76,6 +76,9 @@ func same(a, b *tree.Tree) bool {
 }
 
 func TestNewP19_1(t *testing.T) {
+	if tree.Root != 1 || tree.PutInode != 1 || tree.DropInode != 2 || tree.PutName != 3 || tree.DropName != 4 {
+		t.Error("the constants")
+	}
 	tr := tree.New()
 	x, e := tr.Inode(tree.Root)
 	if !inode.Equal(x, inode.Inode{Kind: inode.Dir, Links: 2}) || e != api.OK || tr.Len() != 1 || !slices.Equal(tr.All(), []int{1}) || len(tr.Deeds()) != 0 {
@@ -600,6 +603,7 @@ func TestBuildP19_7(t *testing.T) {
 		{[]tree.Item{fl(3, 2), dr(2, 2), root(3)}, names{{2, "b", 3}, {1, "a", 2}, {1, "b", 3}}, api.OK},
 		{[]tree.Item{root(2), fl(2, 1)}, nil, api.ErrForm}, {[]tree.Item{root(2), fl(2, 2)}, names{{1, "a", 2}}, api.ErrForm}, {[]tree.Item{root(2), fl(2, 1)}, names{{1, "a", 2}, {1, "b", 2}}, api.ErrForm},
 		{[]tree.Item{root(2), fl(2, 0)}, names{{1, "a", 2}}, api.ErrForm}, {[]tree.Item{root(2), fl(2, 1)}, names{{1, "a/b", 2}}, api.ErrForm}, {[]tree.Item{root(2), fl(2, 1)}, names{{1, "", 2}}, api.ErrForm},
+		{[]tree.Item{root(2), fl(2, 0)}, names{{1, "a/b", 2}}, api.ErrForm},
 		{[]tree.Item{root(2), fl(2, 2)}, names{{1, "a", 2}, {1, "a", 2}}, api.ErrForm}, {[]tree.Item{root(2), fl(2, 1), fl(3, 1)}, names{{1, "a", 2}, {1, "a", 3}}, api.ErrForm},
 		{[]tree.Item{root(2)}, names{{1, "a", 2}}, api.ErrForm}, {[]tree.Item{root(2), fl(2, 1)}, names{{3, "a", 2}}, api.ErrForm}, {[]tree.Item{root(2), fl(2, 2)}, names{{1, "a", 2}, {2, "a", 2}}, api.ErrForm},
 		{[]tree.Item{root(3)}, names{{1, "a", 1}}, api.ErrForm}, {[]tree.Item{root(3), dr(2, 3)}, names{{1, "a", 2}, {2, "a", 1}}, api.ErrForm}, {[]tree.Item{root(2), dr(2, 0)}, nil, api.OK},
@@ -614,6 +618,9 @@ func TestBuildP19_7(t *testing.T) {
 			t.Errorf("%d: %v", i, tr)
 		}
 		if e == api.OK {
+			if up, e := tr.Up(1); up != 1 || e != api.OK {
+				t.Errorf("%d: the root's parent is %d", i, up)
+			}
 			items, got := tr.Parts()
 			if len(items) != len(x.l) || len(got) != len(x.names) || !slices.IsSortedFunc(items, func(a, b tree.Item) int { return a.N - b.N }) {
 				t.Errorf("%d: %v, %v", i, items, got)
