@@ -18,7 +18,10 @@ import (
 	"gabion/pm"
 )
 
-const most = 65536 * 64
+const (
+	most   = 65536 * 64
+	rounds = 10
+)
 
 func config() boot.Config {
 	return boot.Config{Flat: flat.Config{Regions: 3, Lines: 256, Spares: 8, Psi: 30, Key: 7}, Heat: 25, Half: 4096, Clients: 3}
@@ -116,6 +119,8 @@ func TestRoomP29_1(t *testing.T) {
 	do(t, w, call.Call{Kind: call.Pwrite, Data: "end", At: most - 3}, call.Result{N: 3})
 	do(t, w, call.Call{Kind: call.Pwrite, Data: "end", At: most - 2}, call.Result{Err: api.ErrLong})
 	do(t, w, call.Call{Kind: call.Pread, N: math.MaxInt, At: most - 4}, call.Result{Data: "\x00end"})
+	do(t, w, call.Call{Kind: call.Seek, N: 2, At: -most}, call.Result{})
+	do(t, w, call.Call{Kind: call.Seek, N: 2, At: -most - 1}, call.Result{Err: api.ErrInval})
 	do(t, w, call.Call{Kind: call.Pread, N: 4, At: 999}, call.Result{Data: "x\x00\x00\x00"})
 }
 
@@ -442,5 +447,249 @@ func TestStaleP29_1(t *testing.T) {
 		} else {
 			do(t, w, call.Call{Kind: call.Close}, call.Result{})
 		}
+	}
+}
+
+// content is the bytes of a path behind a failure of the power.
+func content(w *model.World, p string) (string, bool) {
+	w = w.Copy()
+	w.Lost()
+	if r, _ := w.Do(0, opn(p, 1)); r.Err != api.OK {
+		return "", false
+	}
+	r, _ := w.Do(0, call.Call{Kind: call.Read, N: most})
+	return r.Data, r.Err == api.OK
+}
+
+// files is the paths of the files of a listing.
+func files(list []string) []string {
+	var l []string
+	for _, line := range list {
+		if p, _, ok := strings.Cut(line, " f "); ok {
+			l = append(l, p)
+		}
+	}
+	return l
+}
+
+// stored is the same of a system.
+func stored(y *call.System, p string) (string, bool) {
+	r, _ := y.Do(2, opn(p, 1))
+	if r.Err != api.OK {
+		return "", false
+	}
+	fd := r.N
+	r, _ = y.Do(2, call.Call{Kind: call.Read, Fd: fd, N: most})
+	y.Do(2, call.Call{Kind: call.Close, Fd: fd})
+	return r.Data, r.Err == api.OK
+}
+
+// mixed reports whether bytes are those of a World, but for bytes that the calls under way were writing in place.
+func mixed(got string, w *model.World, p string, under []*model.World) bool {
+	want, ok := content(w, p)
+	if !ok || len(got) != len(want) {
+		return false
+	}
+	others := []string{}
+	for _, v := range under {
+		if s, ok := content(v, p); ok {
+			others = append(others, s)
+		}
+	}
+	for i := range len(got) {
+		fits := got[i] == want[i]
+		for _, s := range others {
+			fits = fits || i < len(s) && got[i] == s[i]
+		}
+		if !fits {
+			return false
+		}
+	}
+	return true
+}
+
+// TestPowerInterleaved lets the power fail while several clients are under way, lines break, and starts fail, too (P3, P4).
+func TestPowerInterleaved(t *testing.T) {
+	x := rand.New(rand.NewPCG(36, 1))
+	fails, changed := 0, 0
+	for range rounds {
+		d, y := made(t)
+		w := world(t, 3)
+		var calls [3]call.Call
+		for step := 0; step < 900; step++ {
+			client := x.IntN(3)
+			if !y.Under(client) {
+				calls[client] = random(x)
+				if x.IntN(3) == 0 {
+					calls[client] = call.Call{Kind: call.Pwrite, Fd: x.IntN(3), At: x.IntN(300), Data: strings.Repeat(string(rune('a'+step%26)), 1+x.IntN(150))}
+				}
+				y.Begin(client, calls[client])
+			}
+			if x.IntN(25) == 0 {
+				d.Fuse(1 + x.IntN(80))
+			}
+			if x.IntN(150) == 0 {
+				d.Break(1 + 3 + x.IntN(200))
+			}
+			r, over, e := y.Step(client)
+			if e != api.OK {
+				t.Fatal(e)
+			}
+			if !d.Off() {
+				if over {
+					if want, _ := w.Do(client, calls[client]); !same(r, want) {
+						t.Fatalf("%v: %v, not %v", calls[client], r, want)
+					}
+				}
+				continue
+			}
+			fails++
+			var under []*model.World
+			for c := range 3 {
+				if c == client || y.Under(c) {
+					v := w.Copy()
+					v.Do(c, calls[c])
+					under = append(under, v)
+				}
+			}
+			after := w.Copy()
+			after.Do(client, calls[client])
+			for e = api.ErrPower; e == api.ErrPower; {
+				keep := make([]bool, 10)
+				for i := range keep {
+					keep[i] = x.IntN(2) == 0
+				}
+				d.Boot(keep)
+				if x.IntN(2) == 0 {
+					d.Fuse(1 + x.IntN(4))
+				}
+				y, e = boot.Start(d, config())
+			}
+			if e != api.OK {
+				t.Fatal(e)
+			}
+			d.Fuse(0)
+			if rep, e := audit.Check(y.Store()); e != api.OK || rep.Lost != 0 {
+				t.Fatal(rep, e)
+			}
+			list := audit.List(y.Store().Tree())
+			w.Lost()
+			after.Lost()
+			fits := func(v *model.World) bool {
+				if !slices.Equal(list, v.Lines()) {
+					return false
+				}
+				for _, p := range files(list) {
+					got, there := stored(y, p)
+					if want, ok := content(v, p); ok != there || there && got != want && !mixed(got, v, p, under) {
+						return false
+					}
+				}
+				return true
+			}
+			if !fits(w) {
+				w = after
+				changed++
+				if !fits(w) {
+					t.Fatalf("%v: %q", calls[client], list)
+				}
+			}
+			// What was written in place is from now on as it is.
+			for _, p := range files(list) {
+				got, there := stored(y, p)
+				if want, _ := content(w, p); there && got != want {
+					if r, _ := w.Do(0, opn(p, 2)); r.Err == api.OK {
+						w.Do(0, call.Call{Kind: call.Pwrite, Fd: r.N, Data: got})
+						w.Do(0, call.Call{Kind: call.Close, Fd: r.N})
+					}
+				}
+			}
+			if !w.Same(y) {
+				t.Fatal("not the same")
+			}
+		}
+	}
+	if fails < 3*rounds || changed == 0 {
+		t.Error("the power failed only", fails, "times;", changed, "calls had changed something")
+	}
+}
+
+// TestFrozen lets lines break until no spare is left: then nothing is changed, and everything reads as before, also behind a start (P3).
+func TestFrozen(t *testing.T) {
+	x := rand.New(rand.NewPCG(37, 1))
+	frozen, started := 0, 0
+	for range 4 * rounds {
+		d, y := made(t)
+		w := world(t, 3)
+		for range 200 {
+			c, client := random(x), x.IntN(3)
+			for range x.IntN(12) {
+				d.Break(1 + 3 + x.IntN(d.Lines()))
+			}
+			was := y.Store().Frozen()
+			r, e := y.Do(client, c)
+			if e != api.OK {
+				t.Fatal(e)
+			}
+			after := w.Copy()
+			want, _ := after.Do(client, c)
+			if r.Err != api.ErrFrozen {
+				if !same(r, want) {
+					t.Fatalf("%v: %v, not %v", c, r, want)
+				}
+				w = after
+				continue
+			}
+			if !y.Store().Frozen() {
+				t.Fatal("ErrFrozen, and not frozen")
+			}
+			for _, p := range files(w.Lines()) {
+				got, there := stored(y, p)
+				if v, ok := content(w, p); ok && there && got != v && (was || !mixed(got, w, p, []*model.World{after})) {
+					t.Fatalf("%v: %s reads %q, not %q", c, p, got, v)
+				}
+			}
+			frozen++
+			break
+		}
+		if !y.Store().Frozen() {
+			continue
+		}
+		list := audit.List(y.Store().Tree())
+		if !slices.Equal(list, w.Lines()) {
+			t.Fatalf("%q, not %q", list, w.Lines())
+		}
+		count, before := d.Count(), []string{}
+		for _, p := range files(list) {
+			s, _ := stored(y, p)
+			before = append(before, s)
+		}
+		for range 100 {
+			c := random(x)
+			r, e := y.Do(x.IntN(3), c)
+			if e != api.OK || r.Err == api.OK && (c.Kind == call.Mkdir || c.Kind == call.Write || c.Kind == call.Unlink || c.Kind == call.Symlink) {
+				t.Fatal(c, r, e)
+			}
+		}
+		d.Boot(nil)
+		if d.Count() != count || !slices.Equal(audit.List(y.Store().Tree()), list) {
+			t.Fatal("a frozen system is changed")
+		}
+		z, e := boot.Start(d, config())
+		if e == api.ErrSpares {
+			continue
+		}
+		if e != api.OK || z.Store().Frozen() || !slices.Equal(audit.List(z.Store().Tree()), list) {
+			t.Fatal(e)
+		}
+		started++
+		for i, p := range files(list) {
+			if s, _ := stored(z, p); s != before[i] {
+				t.Fatalf("%s reads %q, not %q", p, s, before[i])
+			}
+		}
+	}
+	if frozen < rounds || started == 0 {
+		t.Error(frozen, "frozen systems,", started, "started again")
 	}
 }
