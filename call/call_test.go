@@ -203,7 +203,7 @@ func TestStepsP25_2(t *testing.T) {
 		n    int
 		want api.Errno
 	}{
-		{opn("/f", wr|rd|call.Create), 2, 0}, {put(0, "abc"), 4, 0}, {put(0, "def"), 5, 0}, {pput(0, strings.Repeat("x", 64), 0), 5, 0}, {put(0, ""), 3, 0}, {get(0, 5), 2, 0}, {pget(0, 5, 1), 2, 0},
+		{opn("/f", wr|rd|call.Create), 2, 0}, {put(0, "abc"), 4, 0}, {put(0, "def"), 4, 0}, {pput(0, strings.Repeat("x", 64), 0), 4, 0}, {pput(0, "y", 100), 4, 0}, {pput(0, "z", 130), 5, 0}, {put(0, ""), 3, 0}, {get(0, 5), 2, 0}, {pget(0, 5, 1), 2, 0},
 		{pget(0, 5, -1), 2, api.ErrInval}, {seek(0, 0, 5), 1, 0}, {seek(0, 9, 5), 1, api.ErrInval}, {fd(call.Fstat, 0), 1, 0}, {fd(call.Fsync, 0), 1, 0}, {fd(call.Fsync, 1), 1, api.ErrBad}, {get(1, 5), 1, api.ErrBad},
 		{put(1, "x"), 1, api.ErrBad}, {cls(1), 1, api.ErrBad}, {ftrunc(0, 5), 3, 0}, {trunc("/f", 3), 4, 0}, {trunc("/zz", 3), 2, api.ErrNone}, {trunc("", 3), 1, api.ErrNone},
 		{opn("/f", wr|call.Trunc), 4, 0}, {opn("/f", rd), 2, 0}, {opn("/f", 0), 1, api.ErrInval}, {opn("", rd), 1, api.ErrNone}, {opn("/zz", rd), 2, api.ErrNone}, {cls(1), 2, 0},

@@ -219,13 +219,13 @@ func TestWriteP22_2(t *testing.T) {
 	runs(t, s, 2, run(1, 1), run(0, 1))
 	want = nul(2) + "hole" + nul(64) + "aXc"
 	reads(t, s, 2, want)
-	// Longer: the last block is cleared first, and then written.
-	write(73, "de", 3)
+	// Longer: the last block is one block, also if it receives bytes.
+	write(73, "de", 2)
 	want += "de"
-	write(80, "f", 3)
+	write(80, "f", 2)
 	want += nul(5) + "f"
 	reads(t, s, 2, want)
-	write(60, strings.Repeat("g", 68), 4)
+	write(60, strings.Repeat("g", 68), 3)
 	want = want[:60] + strings.Repeat("g", 68)
 	reads(t, s, 2, want)
 	// The last block is full.
@@ -247,6 +247,92 @@ func TestWriteP22_2(t *testing.T) {
 	}
 	if got, _ := file.Read(s, 2, most-3, 9); got != nul(2)+"z" {
 		t.Errorf("%q", got)
+	}
+}
+
+// TestLastBlockP22_3: a block is written by one step, also the last one of a file that becomes longer; what was cut off doesn't come back.
+func TestLastBlockP22_3(t *testing.T) {
+	for _, x := range []struct {
+		size, at, k int
+		blocks      int // that are written
+		last        string
+	}{
+		{1, 0, 2, 1, "bb" + nul(62)},
+		{5, 5, 1, 1, "ooooob" + nul(58)},
+		{5, 30, 1, 1, "ooooo" + nul(25) + "b" + nul(33)},
+		{5, 63, 1, 1, "ooooo" + nul(58) + "b"},
+		{5, 0, 64, 1, strings.Repeat("b", 64)},
+		{60, 60, 10, 2, strings.Repeat("o", 60) + "bbbb"},
+		{63, 63, 1, 1, strings.Repeat("o", 63) + "b"},
+		{100, 3, 120, 2, strings.Repeat("b", 59) + nul(5)},
+		{130, 20, 300, 5, strings.Repeat("b", 64)},
+		// It receives no bytes: it is a block of its own.
+		{1, 64, 1, 2, "o" + nul(63)},
+		{100, 400, 1, 2, strings.Repeat("o", 36) + nul(28)},
+		// It is full, or the file becomes no longer.
+		{128, 128, 1, 1, strings.Repeat("o", 64)},
+		{128, 100, 29, 2, strings.Repeat("o", 36) + strings.Repeat("b", 28)},
+		{100, 70, 30, 1, strings.Repeat("o", 6) + strings.Repeat("b", 30) + strings.Repeat("o", 28)},
+		{100, 20, 60, 2, strings.Repeat("b", 16) + strings.Repeat("o", 48)},
+	} {
+		what := fmt.Sprint(x.size, x.at, x.k)
+		_, r, s := made(t, config())
+		all := func(j *file.Job, e api.Errno) {
+			t.Helper()
+			if e != api.OK || j.All() != api.OK {
+				t.Fatal(what, e)
+			}
+		}
+		// Behind the end the last block has bytes that the file had.
+		all(file.Write(s, 2, 0, strings.Repeat("o", 192)))
+		all(file.Resize(s, 2, x.size))
+		b := strings.Repeat("b", x.k)
+		j, e := file.Write(s, 2, x.at, b)
+		does(t, x.blocks+1, j, e)
+		want := strings.Repeat("o", x.size) + nul(max(0, x.at-x.size))
+		want = want[:x.at] + b + want[min(len(want), x.at+x.k):]
+		reads(t, s, 2, want)
+		f, _ := s.Tree().Inode(2)
+		place, _ := f.Blocks.Map((x.size - 1) / 64)
+		if got, _ := s.Read(place); got != x.last {
+			t.Errorf("%s: the last block is %q", what, got)
+		}
+		all(file.Resize(s, 2, 500))
+		reads(t, mount(t, r), 2, want+nul(500-len(want)))
+	}
+}
+
+// TestLastBlockFirstP22_3: the last block of a file that becomes longer is written before the others.
+func TestLastBlockFirstP22_3(t *testing.T) {
+	for _, x := range []struct {
+		at, k int
+		want  string // after the first step
+	}{
+		{3, 120, strings.Repeat("o", 64) + strings.Repeat("b", 36)},
+		{99, 100, strings.Repeat("o", 99) + "b"},
+		{0, 64, strings.Repeat("b", 64) + strings.Repeat("o", 36)},
+		{200, 1, strings.Repeat("o", 100)},
+	} {
+		_, _, s := made(t, config())
+		j, _ := file.Write(s, 2, 0, strings.Repeat("o", 192))
+		j.All()
+		j, _ = file.Resize(s, 2, 100)
+		j.All()
+		_, free := s.Blocks()
+		j, e := file.Write(s, 2, x.at, strings.Repeat("b", x.k))
+		if done, f := j.Step(); e != api.OK || f != api.OK || done {
+			t.Fatal(e, f, done)
+		}
+		j.Drop()
+		reads(t, s, 2, x.want)
+		f, _ := s.Tree().Inode(2)
+		place, _ := f.Blocks.Map(1)
+		if got, _ := s.Read(place); x.at+x.k > 100 && strings.Contains(got[36:], "o") {
+			t.Errorf("%d: the last block is %q", x.at, got)
+		}
+		if _, n := s.Blocks(); n != free {
+			t.Error("a dropped job keeps blocks")
+		}
 	}
 }
 
@@ -280,7 +366,7 @@ func TestResizeP22_2(t *testing.T) {
 		t.Errorf("%d blocks are free", f)
 	}
 	j, e = file.Write(s, 2, 9, "x")
-	does(t, 3, j, e)
+	does(t, 2, j, e)
 	reads(t, s, 2, text[:5]+nul(4)+"x")
 	resize(most, 2, text[:5]+nul(4)+"x"+nul(most-10))
 	resize(0, 1, "")
